@@ -1,0 +1,1 @@
+"""Glasslayers: trees of folders seen through panes."""
