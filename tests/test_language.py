@@ -1,6 +1,6 @@
 """Checks the package's files against those rules of LANGUAGE.md that are quickly read off a file's text and tree.
 
-Checked in whole or in part: L1, L2, L4 to L8, L10, L12, L14, L16, L17, L20, L25, L27. All else is left to the reader.
+Checked in whole or in part: L1 to L8, L10, L12, L14 to L20, L22 to L25, L27. All else is left to the reader.
 """
 
 import ast
@@ -35,6 +35,13 @@ UNUSED_WORDS = re.compile(
     r"\b(type|typing|typing_extensions|enum|Enum|IntEnum|StrEnum|Flag|IntFlag|Generic|Protocol|ABC|ABCMeta|namedtuple"
     r"|NamedTuple|TypedDict|TYPE_CHECKING|abstractmethod)\b|dataclass|overload|contextmanager"
 )
+WALKED = {"zip", "enumerate", "reversed", "range", "items", "keys", "values"}
+WALKERS = {"list", "tuple", "dict", "sorted", "sum", "any", "all", "enumerate", "zip", "min", "max", "join"}
+KEYWORDS = {
+    "sorted": {"key", "reverse"}, "min": {"key", "default"}, "max": {"key", "default"}, "sum": {"start"},
+    "enumerate": {"start"}, "zip": {"strict"},
+}
+TAKEN_ERRORS = {"KeyError", "ZeroDivisionError", "StopIteration"}
 PLAIN_NAME = re.compile(r"[A-Za-z][A-Za-z0-9_]*|__(init|eq|repr|str|len)__")
 
 
@@ -95,10 +102,93 @@ def def_faults(node):
     return faults
 
 
+def top_faults(tree):
+    faults = []
+    for place, node in enumerate(tree.body):
+        docstring = place == 0 and isinstance(node, ast.Expr) and isinstance(node.value, ast.Constant)
+        if not docstring and not isinstance(node, (ast.ImportFrom, ast.FunctionDef, ast.ClassDef, ast.Assign)):
+            faults.append("L3 a statement at the top")
+        if isinstance(node, ast.Assign):
+            inner = [type(part) for part in ast.walk(node.value)]
+            if {ast.Call, ast.BinOp, ast.ListComp, ast.Lambda, ast.IfExp, ast.Subscript} & set(inner):
+                faults.append("L3 a value that is not plain")
+            if len([kind for kind in inner if kind in (ast.List, ast.Dict)]) > 1:
+                faults.append("L15 a list or dict within another one")
+    names = top_names(tree)
+    faults += [f"L15 the name {name} bound twice" for name in set(names) if names.count(name) > 1]
+    return faults
+
+
+def local_names(tree):
+    for node in ast.walk(tree):
+        if isinstance(node, ast.arg):
+            yield node.arg
+        elif isinstance(node, ast.ExceptHandler) and node.name:
+            yield node.name
+        elif isinstance(node, (ast.FunctionDef, ast.Lambda, ast.ListComp)):
+            for part in ast.walk(node):
+                if isinstance(part, ast.Name) and isinstance(part.ctx, ast.Store):
+                    yield part.id
+
+
+def scope_faults(tree):
+    taken = {alias.name for node in ast.walk(tree) if isinstance(node, ast.ImportFrom) for alias in node.names}
+    taken |= {node.name for node in ast.walk(tree) if isinstance(node, ast.ClassDef)} | set(dir(builtins))
+    return [f"L15 the local name {name}" for name in sorted(set(local_names(tree)) & taken)]
+
+
+def called(node):
+    """The name by which a call calls, None for what is no call."""
+    if not isinstance(node, ast.Call):
+        return None
+    return node.func.attr if isinstance(node.func, ast.Attribute) else getattr(node.func, "id", None)
+
+
+def call_faults(tree):
+    parents = {child: node for node in ast.walk(tree) for child in ast.iter_child_nodes(node)}
+    faults = []
+    for node in ast.walk(tree):
+        name, parent = called(node), parents.get(node)
+        if name in WALKED:
+            looped = isinstance(parent, (ast.For, ast.comprehension)) and parent.iter is node
+            if not looped and not (called(parent) in WALKERS and parent.args[:1] == [node]):
+                faults.append(f"L23 {name} is kept")
+        if name == "set" and not (called(parent) in ("sorted", "len") or isinstance(parent, (ast.Compare, ast.BinOp))):
+            faults.append("L24 a set is kept")
+        if isinstance(node, ast.Set) and not isinstance(parent, ast.Compare):
+            faults.append("L24 a set is kept")
+        if name in dir(builtins) or name in METHODS:
+            wrong = {keyword.arg for keyword in node.keywords} - KEYWORDS.get(name, set())
+            faults += [f"L22 the keyword {word}" for word in sorted(wrong)]
+    return faults
+
+
+def error_faults(tree):
+    own = {alias.name for node in ast.walk(tree) if isinstance(node, ast.ImportFrom)
+           for alias in node.names if node.module == "glasslayers.errors"}
+    faults = []
+    for node in ast.walk(tree):
+        if isinstance(node, ast.ExceptHandler) and getattr(node.type, "id", None) not in own | TAKEN_ERRORS:
+            faults.append("L19 an error that is not taken")
+        if isinstance(node, ast.Raise) and called(node.exc) not in own:
+            faults.append("L19 an error that is not made on the spot")
+    return faults
+
+
+def class_faults(trees):
+    """L18, over all files: no name is a method in one class and a value in another."""
+    classes = [node for tree in trees for node in ast.walk(tree) if isinstance(node, ast.ClassDef)]
+    methods = {part.name for node in classes for part in node.body if isinstance(part, ast.FunctionDef)}
+    values = {part.attr for node in classes for part in ast.walk(node)
+              if isinstance(part, ast.Attribute) and isinstance(part.ctx, ast.Store)}
+    return [f"L18 the name {name}" for name in sorted(methods & values)]
+
+
 def file_faults(text, methods, defined):
     """`defined` has the names at the top of each module, by the module's full name."""
-    faults = text_faults(text)
-    for node in ast.walk(ast.parse(text)):
+    tree = ast.parse(text)
+    faults = text_faults(text) + top_faults(tree) + scope_faults(tree) + call_faults(tree) + error_faults(tree)
+    for node in ast.walk(tree):
         found = name_faults(node) + form_faults(node, methods) + def_faults(node)
         if isinstance(node, ast.ImportFrom):
             known = defined.get(node.module, []) if node.level == 0 else []
@@ -136,8 +226,27 @@ class PackageTest(unittest.TestCase):
             with self.subTest(path=path.name):
                 self.assertEqual(file_faults(text, self.methods, self.defined), [])
 
+    def test_the_classes_keep_to_the_rules(self):
+        self.assertEqual(class_faults([ast.parse(text) for text in self.texts.values()]), [])
+
+    def test_no_two_files_draw_from_one_another(self):
+        drawn = {}
+        for path, text in self.texts.items():
+            rows = [node for node in ast.walk(ast.parse(text)) if isinstance(node, ast.ImportFrom)]
+            drawn[f"glasslayers.{path.stem}"] = {node.module for node in rows}
+        while drawn:
+            free = [module for module, others in drawn.items() if not others & set(drawn)]
+            self.assertNotEqual(free, [], sorted(drawn))
+            drawn = {module: others for module, others in drawn.items() if module not in free}
+
 
 class CheckTest(unittest.TestCase):
+    def test_a_method_and_a_value_of_one_name(self):
+        one = "class A:\n    def lay(self):\n        pass\n"
+        other = "class B:\n    def f(self):\n        self.NAME = 1\n"
+        self.assertNotEqual(class_faults([ast.parse(one + other.replace("NAME", "lay"))]), [])
+        self.assertEqual(class_faults([ast.parse(one + other.replace("NAME", "kept"))]), [])
+
     def test_plain_code_has_no_faults(self):
         text = '"""Words."""\nfrom glasslayers.ways import above\n\n\ndef f(way, k=1):\n    return [above(way), len("a")]\n'
         self.assertEqual(file_faults(text, METHODS, {"glasslayers.ways": ["above"]}), [])
@@ -151,12 +260,18 @@ class CheckTest(unittest.TestCase):
             "x = " + "1" * 120 + "\n": "L10", "x = 1\n" * 401: "L10", "# \t\n": "L14", "# a type\n": "L17",
             "def f():\n" + "    pass\n" * 40: "L10", "for a in b:\n    pass\nelse:\n    pass\n": "L6",
             "x = 'a" + chr(37) + "'\n": "L27", "with a:\n    pass\n": "L6", "x = {a: 1 for a in b}\n": "L6",
+            "f()\n": "L3", "x = f()\n": "L3", "x = [[1]]\n": "L15", "x = 1\nx = 2\n": "L15",
+            "def f(len):\n    pass\n": "L15", "def f():\n    return [id for id in x]\n": "L15",
+            "from glasslayers.ways import above\n\n\ndef f(above):\n    pass\n": "L15",
+            "def f(a):\n    b = zip(a)\n": "L23", "def f(a):\n    return a.items()\n": "L23",
+            "def f(a):\n    return set(a)\n": "L24", "def f(a):\n    return {1, a}\n": "L24",
+            "def f(a):\n    return a.split(sep=1)\n": "L22", "def f():\n    raise ValueError(1)\n": "L19",
+            "def f():\n    try:\n        pass\n    except Exception:\n        pass\n": "L19",
         }
         for text, rule in samples.items():
             with self.subTest(text=text[:60]):
                 faults = file_faults(text, METHODS, {"glasslayers.ways": ["above"]})
-                self.assertEqual([fault for fault in faults if not fault.startswith(rule)], [])
-                self.assertNotEqual(faults, [])
+                self.assertNotEqual([fault for fault in faults if fault.startswith(rule + " ")], [])
 
 
 if __name__ == "__main__":

@@ -1,0 +1,68 @@
+"""Trees that several tests draw on: all small ones, and larger ones made from a seed."""
+
+import itertools
+import random
+
+FORTY = tuple([f"n{number}" for number in range(40)])
+# "a" and "ab" begin alike, so that a mix-up of names and signs shows.
+NAMES = ("a", "ab", "b")
+
+
+def file(path, text=""):
+    return (way(path), "file", text)
+
+
+def link(path, text):
+    return (way(path), "link", text)
+
+
+def folder(path):
+    return (way(path), "folder", "")
+
+
+def way(path):
+    """The way that a path like /a/b tells, not read by the program itself."""
+    return tuple([name for name in path.split("/") if name])
+
+
+def chain(count, last="folder"):
+    """Folders in one another along FORTY, `count` entries, the last with the mark `last`."""
+    marks = ["folder"] * (count - 1) + [last]
+    return [(FORTY[:number + 1], mark, "") for number, mark in enumerate(marks)]
+
+
+def wide_tree():
+    """A tree of four hundred entries: a way of forty names, and files in the last folder but one."""
+    return chain(40) + [(FORTY[:39] + (f"w{number:03}",), "file", f"text {number}") for number in range(360)]
+
+
+def small_trees():
+    """Each tree of the names a and ab, with at most one thing within each folder."""
+    inner = [[], [(("b",), "file", "x")], [(("b",), "folder", "")]]
+    kinds = [[], [((), "file", "x")], [((), "file", "y")], [((), "link", "b")]]
+    kinds += [[((), "folder", "")] + below for below in inner]
+    trees = []
+    for one, other in itertools.product(kinds, kinds):
+        first = [(("a",) + under, mark, text) for under, mark, text in one]
+        trees.append(first + [(("ab",) + under, mark, text) for under, mark, text in other])
+    return trees
+
+
+def random_thing(rng):
+    return rng.choice([
+        ("file", ""), ("file", "x"), ("file", "x y "), ("link", "/"), ("link", "a"), ("link", "../ab/b"),
+        ("folder", ""), ("folder", ""), ("folder", ""),
+    ])
+
+
+def random_tree(rng, turns=8, deep=4, names=NAMES):
+    things = {}
+    for turn in range(turns):
+        folders = [()] + [at for at, thing in things.items() if thing[0] == "folder" and len(at) < deep]
+        things.setdefault(rng.choice(folders) + (rng.choice(names),), random_thing(rng))
+    return [(at, mark, text) for at, (mark, text) in sorted(things.items())]
+
+
+def random_trees(seed, count, **kinds):
+    rng = random.Random(seed)
+    return [random_tree(rng, **kinds) for turn in range(count)]
