@@ -1,4 +1,4 @@
-"""Trees that several tests draw on: all small ones, and larger ones made from a seed."""
+"""Trees and panes that several tests draw on: all small ones, and larger ones made from a seed."""
 
 import itertools
 import random
@@ -18,6 +18,14 @@ def link(path, text):
 
 def folder(path):
     return (way(path), "folder", "")
+
+
+def gone(path):
+    return (way(path), "gone", "")
+
+
+def shut(path):
+    return (way(path), "shut", "")
 
 
 def way(path):
@@ -66,3 +74,62 @@ def random_tree(rng, turns=8, deep=4, names=NAMES):
 def random_trees(seed, count, **kinds):
     rng = random.Random(seed)
     return [random_tree(rng, **kinds) for turn in range(count)]
+
+
+PANE_KINDS = [("file", "x"), ("file", "y"), ("link", "b"), ("folder", ""), ("gone", ""), ("shut", "")]
+
+
+def panes_along(ways, kinds=PANE_KINDS):
+    """Each pane with entries of those kinds at some of those ways, which come in their order."""
+    panes = [[]]
+    for at in ways:
+        panes += [pane + [(at,) + kind] for pane in panes for kind in kinds if may_follow(pane, at, kind[0])]
+    return panes
+
+
+def may_follow(pane, at, mark):
+    marks = {entry[0]: entry[1] for entry in pane}
+    if at == ():
+        return mark == "shut"
+    if len(at) > 1 and marks.get(at[:-1]) not in ("folder", "shut"):
+        return False
+    within = any(marks.get(at[:count]) == "shut" for count in range(len(at)))
+    return mark in ("file", "link", "folder") or not within
+
+
+def deep_panes(kinds=PANE_KINDS):
+    """Each pane along one way of three names."""
+    return panes_along([(), ("a",), ("a", "a"), ("a", "a", "a")], kinds)
+
+
+def trees_along(ways, kinds=(("file", "x"), ("file", "z"), ("link", "b"), ("folder", ""))):
+    """Each tree with things of those kinds at some of those ways."""
+    return panes_along(ways, kinds)
+
+
+def random_pane(rng, turns=8, deep=4, names=NAMES):
+    pane = [((), "shut", "")] if rng.random() < 0.15 else []
+    ways = [()]
+    for turn in range(turns):
+        at = rng.choice(ways) + (rng.choice(names),)
+        kind = rng.choice(PANE_KINDS + [("folder", ""), ("folder", ""), ("shut", "")])
+        taken = [entry[0] for entry in pane]
+        if at not in taken and len(at) <= deep and may_follow(pane, at, kind[0]):
+            pane.append((at,) + kind)
+            if kind[0] in ("folder", "shut"):
+                ways.append(at)
+    return sorted(pane)
+
+
+def random_panes(seed, count, **kinds):
+    rng = random.Random(seed)
+    return [random_pane(rng, **kinds) for turn in range(count)]
+
+
+def wide_pane():
+    """A pane of four hundred entries with each of the marks, some at ways of forty names."""
+    leaves = []
+    for number in range(361):
+        mark = ("file", "gone", "folder", "shut")[number % 4]
+        leaves.append((FORTY[:39] + (f"w{number:03}",), mark, ""))
+    return chain(39) + leaves

@@ -1,0 +1,56 @@
+"""What the document says of panes, way by way and in its own words: slow, and without the program's own parts."""
+
+
+def beginnings(way):
+    """The ways that a way lies under, the root's too."""
+    return [way[:count] for count in range(len(way))]
+
+
+def marks(pane):
+    return {entry[0]: entry[1] for entry in pane}
+
+
+def hidden(pane, way):
+    """Whether the pane has another mark than folder at a way that the way lies under."""
+    found = marks(pane)
+    return any(found.get(above, "folder") != "folder" for above in beginnings(way))
+
+
+def silent(pane, way):
+    return way not in marks(pane) and not hidden(pane, way)
+
+
+def laid(pane, tree):
+    entries = {entry[0]: entry for entry in pane}
+    things = {entry[0]: entry for entry in tree}
+    shown = []
+    for way in sorted(set(entries) | set(things)):
+        if way == ():
+            continue
+        if way in entries:
+            mark = entries[way][1]
+            if mark in ("file", "link"):
+                shown.append(entries[way])
+            if mark in ("folder", "shut"):
+                shown.append((way, "folder", ""))
+        elif not hidden(pane, way):
+            shown.append(things[way])
+    return shown
+
+
+def seen(panes):
+    return laid(panes[-1], seen(panes[:-1])) if panes else []
+
+
+def press(upper, lower):
+    found = [entry for entry in lower if silent(upper, entry[0])]
+    below = marks(lower)
+    for way, mark, text in upper:
+        if hidden(lower, way):
+            if mark != "gone":
+                found.append((way, "folder" if mark == "shut" else mark, text))
+        elif mark == "folder" and below.get(way, "folder") != "folder" and not hidden(upper, way):
+            found.append((way, "shut", ""))
+        else:
+            found.append((way, mark, text))
+    return sorted(found)
