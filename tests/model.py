@@ -54,3 +54,36 @@ def press(upper, lower):
         else:
             found.append((way, mark, text))
     return sorted(found)
+
+
+def under(tree, way):
+    return [entry for entry in tree if entry[0][:len(way)] == way and entry[0] != way]
+
+
+def draw(one, other):
+    if one == other:
+        return []
+    drawn = draw_below(one, other, ())
+    whole = [((), "shut", "")] + other
+    return sorted(whole if len(whole) < len(drawn) else drawn)
+
+
+def draw_below(one, other, way):
+    ways = {entry[0] for entry in one + other if entry[0] != () and entry[0][:-1] == way}
+    return [entry for at in ways for entry in draw_at(one, other, at)]
+
+
+def draw_at(one, other, way):
+    first = [entry for entry in one if entry[0] == way]
+    second = [entry for entry in other if entry[0] == way]
+    if first == second and under(one, way) == under(other, way):
+        return []
+    if not second:
+        return [(way, "gone", "")]
+    if second[0][1] in ("file", "link"):
+        return second
+    if not first or first[0][1] != "folder":
+        return [(way, "folder", "")] + under(other, way)
+    kept = [(way, "folder", "")] + draw_below(one, other, way)
+    closed = [(way, "shut", "")] + under(other, way)
+    return closed if len(closed) < len(kept) else kept
