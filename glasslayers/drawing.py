@@ -1,7 +1,7 @@
 """The pane drawn from one tree to another, with as few entries as can be."""
 
 from glasslayers.laying import laid
-from glasslayers.sorting import names_of, sorted_out
+from glasslayers.sorting import keys_of, sorted_out
 
 
 def is_folder(heap):
@@ -18,7 +18,7 @@ def drawn_names(one, other, depth):
     ones = sorted_out(one, depth)
     others = sorted_out(other, depth)
     drawn = []
-    for name in names_of(ones, others):
+    for name in keys_of(ones, others):
         drawn.extend(drawn_heap(ones.get(name, []), others.get(name, [])))
     return drawn
 

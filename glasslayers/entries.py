@@ -37,3 +37,10 @@ def are_entries(entries):
 def in_order(entries):
     # No way stands twice among them, so marks and texts are never compared.
     return sorted(entries)
+
+
+def by_way(entries):
+    found = {}
+    for entry in entries:
+        found[entry[0]] = entry
+    return found

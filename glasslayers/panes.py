@@ -1,6 +1,7 @@
 """Panes: what a pane is, and of which ways it is silent."""
 
 from glasslayers.entries import are_entries
+from glasslayers.errors import NoPane
 from glasslayers.trees import TREE_MARKS
 from glasslayers.ways import above, lies_under
 
@@ -59,3 +60,11 @@ def left_alone(pane, entries):
 
 def is_silent(pane, way):
     return not any([at == way or hides(mark) and lies_under(way, at) for at, mark, text in pane])
+
+
+def numbered(panes, k):
+    """The pane with the number k in a list of panes."""
+    # Python would take a number below 0 for one that counts from the list's end.
+    if not 0 <= k < len(panes):
+        raise NoPane("no pane has that number")
+    return panes[k]

@@ -1,4 +1,4 @@
-"""Entries sorted out by the names in a folder, and these names brought into order."""
+"""Entries sorted out by the names in a folder, and names and ways brought into order."""
 
 
 def sorted_out(entries, depth):
@@ -13,6 +13,6 @@ def sorted_out(entries, depth):
     return heaps
 
 
-def names_of(one, other):
-    """The names that one of two such dicts has, or both, each once and in their order."""
+def keys_of(one, other):
+    """The names or ways that one of two dicts has as keys, or both, each once and in their order."""
     return sorted(set(one) | set(other))

@@ -87,3 +87,25 @@ def draw_at(one, other, way):
     kept = [(way, "folder", "")] + draw_below(one, other, way)
     closed = [(way, "shut", "")] + under(other, way)
     return closed if len(closed) < len(kept) else kept
+
+
+def hang(one, one_pane, other, other_pane):
+    """Whether an entry of one pane and an entry of another one hang on one another."""
+    if one[0] == other[0]:
+        return one[1:] != other[1:] and not {one[1], other[1]} <= {"folder", "shut"}
+    return hangs_under(one, one_pane, other) or hangs_under(other, other_pane, one)
+
+
+def hangs_under(shut, pane, entry):
+    below = shut[0] in beginnings(entry[0])
+    return shut[1] == "shut" and below and entry[1] != "gone" and entry[0] not in marks(pane)
+
+
+def meetings(upper, lower):
+    """All pairs that hang on one another, each behind its place, in the order of the places."""
+    found = []
+    for one in upper:
+        for other in lower:
+            if hang(one, upper, other, lower):
+                found.append((max(one[0], other[0], key=len), one, other))
+    return sorted(found)

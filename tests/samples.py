@@ -133,3 +133,35 @@ def wide_pane():
         mark = ("file", "gone", "folder", "shut")[number % 4]
         leaves.append((FORTY[:39] + (f"w{number:03}",), mark, ""))
     return chain(39) + leaves
+
+
+LINK_TEXTS = ["/", ".", "..", "a", "ab", "b", "/a", "/ab", "/b", "a/b", "../b", "/a/ab", "./a", "b/..", "/a/.", "0"]
+
+
+def linked_tree(rng, turns=10, deep=3, names=NAMES):
+    """A tree of which a third or so are links."""
+    things = {}
+    for turn in range(turns):
+        folders = [()] + [at for at, thing in things.items() if thing[0] == "folder" and len(at) < deep]
+        thing = rng.choice([("file", "x"), ("link", rng.choice(LINK_TEXTS)), ("folder", ""), ("folder", "")])
+        things.setdefault(rng.choice(folders) + (rng.choice(names),), thing)
+    return [(at, mark, text) for at, (mark, text) in sorted(things.items())]
+
+
+def random_text(rng, most=4, names=NAMES):
+    """A way text, now and then one that is none."""
+    words = [rng.choice(names + names + ("..", ".", "0")) for turn in range(rng.randint(1, most))]
+    text = rng.choice(["", "/"]) + "/".join(words)
+    return rng.choice([text] * 30 + ["/", "", "a//b", text + "/"])
+
+
+def random_deed(rng, names=NAMES):
+    kind = rng.choice(["write", "write", "add", "folder", "folder", "link", "drop", "sweep", "move", "copy"])
+    where = random_text(rng, names=names)
+    if kind in ("write", "add"):
+        return (kind, where, rng.choice(["", "x", "y z "]))
+    if kind == "link":
+        return (kind, where, rng.choice(LINK_TEXTS + ["", "a/"]))
+    if kind in ("move", "copy"):
+        return (kind, where, random_text(rng, names=names))
+    return (kind, where)

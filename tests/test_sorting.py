@@ -1,6 +1,6 @@
 import unittest
 
-from glasslayers.sorting import names_of, sorted_out
+from glasslayers.sorting import keys_of, sorted_out
 from samples import file, folder
 
 
@@ -11,9 +11,10 @@ class SortingTest(unittest.TestCase):
         self.assertEqual(sorted_out(tree[1:4], 1), {"b": tree[1:2], "c": tree[2:4]})
         self.assertEqual(sorted_out([], 0), {})
 
-    def test_names_of(self):
-        self.assertEqual(names_of({"b": [], "0": []}, {"ab": [], "a": [], "b": []}), ["0", "a", "ab", "b"])
-        self.assertEqual(names_of({}, {}), [])
+    def test_keys_of(self):
+        self.assertEqual(keys_of({"b": [], "0": []}, {"ab": [], "a": [], "b": []}), ["0", "a", "ab", "b"])
+        self.assertEqual(keys_of({("b",): 1, (): 2}, {("a", "b"): 3, ("b",): 4}), [(), ("a", "b"), ("b",)])
+        self.assertEqual(keys_of({}, {}), [])
 
 
 if __name__ == "__main__":
