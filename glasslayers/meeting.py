@@ -1,7 +1,7 @@
 """Where two panes meet, so that they may not be exchanged, and how far a pane sinks."""
 
 from glasslayers.entries import by_way
-from glasslayers.panes import numbered
+from glasslayers.panes import copies, numbered
 from glasslayers.sorting import keys_of
 from glasslayers.ways import leads
 
@@ -43,9 +43,13 @@ def meet(upper, lower):
     return None
 
 
+def meeting_place(pair):
+    return max([pair[0][0], pair[1][0]], key=len)
+
+
 def sunk(panes, k):
     pane = list(numbered(panes, k))
-    others = [list(other) for other in panes[:k] + panes[k + 1:]]
+    others = copies(panes[:k] + panes[k + 1:])
     number = k
     pair = None
     while number > 0 and pair is None:

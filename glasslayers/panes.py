@@ -68,3 +68,7 @@ def numbered(panes, k):
     if not 0 <= k < len(panes):
         raise NoPane("no pane has that number")
     return panes[k]
+
+
+def copies(panes):
+    return [list(pane) for pane in panes]

@@ -12,6 +12,10 @@ def without(tree, way):
     return [entry for entry in tree if entry[0] != way and not lies_under(entry[0], way)]
 
 
+def planted(way, thing, below):
+    """The entries of a thing at a way, and of the part below it."""
+    return [(way, thing[0], thing[1])] + [(shifted(under, (), way), mark, text) for under, mark, text in below]
+
+
 def grafted(tree, way, thing, below):
-    moved = [(shifted(under, (), way), mark, text) for under, mark, text in below]
-    return in_order(without(tree, way) + [(way, thing[0], thing[1])] + moved)
+    return in_order(without(tree, way) + planted(way, thing, below))
