@@ -12,7 +12,7 @@ from glasslayers.words import shown_way
 LOAD = "load\n"
 FIGURES = "0123456789"
 MOST_FIGURES = 9
-# The count of words in the row of each deed; the texts of the first two have blanks of their own.
+# The texts of these may have blanks of their own, so the count of words in a row is not fixed for them.
 TEXT_DEEDS = ("write", "add")
 DEED_WORDS = {"folder": 2, "drop": 2, "sweep": 2, "link": 3, "move": 3, "copy": 3}
 NUMBER_ROWS = ("weld", "sink", "trim", "pane")

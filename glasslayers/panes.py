@@ -7,7 +7,7 @@ from glasslayers.ways import above, lies_under
 
 
 def may_stand(way, mark, shut_above):
-    """`shut_above` is None where at the way above nothing may stand under."""
+    """`shut_above`: whether the way lies under a shut entry; None where no entry above lets one stand there."""
     if way == ():
         return mark == "shut"
     if shut_above is None:
